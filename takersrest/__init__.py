@@ -1,0 +1,1 @@
+"""Takersrest: takers, lots and costs that grow with the load."""

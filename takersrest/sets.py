@@ -1,0 +1,34 @@
+"""Sets of things: tuples in ascending order without duplicates."""
+
+from itertools import combinations
+
+
+def lies_within(inner, outer):
+    """Tell whether all things of inner are in outer."""
+    return all(thing in outer for thing in inner)
+
+
+def leave_out(things, out):
+    """Return the set without the thing out."""
+    return tuple([thing for thing in things if thing != out])
+
+
+def put_in(things, into):
+    """Return the set with the thing into, which it does not have yet."""
+    return tuple(sorted(things + (into,)))
+
+
+def exchange(things, out, into):
+    """Return the set without out and with into, which it does not have yet."""
+    return put_in(leave_out(things, out), into)
+
+
+def fewer_by_one(things):
+    """Return the list of all sets that have one thing fewer."""
+    return [leave_out(things, thing) for thing in things]
+
+
+def subsets(things, count):
+    """Return the list of all sets of count of the things, in ascending order."""
+    row = list(things)
+    return list(combinations(row, count))
