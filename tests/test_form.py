@@ -45,6 +45,12 @@ INTERFACE = {
         "choose(size, count)", "parts(groups)", "beside(first, second)", "renamed(offer, names, size)",
         "trees(points, roads)", "ways(points, roads, start, end)", "pairings(points, roads)",
     ),
+    "sources": ("columns(rows, size)", "seats(size, groups)"),
+    "smaller": ("circuits(offer)", "span(offer, things)", "without(offer, thing)", "holding(offer, thing)"),
+    "circuits": (
+        "from_circuits(size, barred)", "circuit_fault(offer)", "pieces(offer)", "piece_offer(offer, things)",
+    ),
+    "lines": ("way_lines(points, roads, start, end)", "pair_mates(points, roads)"),
 }
 
 
