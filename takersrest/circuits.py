@@ -1,6 +1,6 @@
 """Offers told by their circuits, faults among circuits, and the pieces of smooth offers."""
 
-from takersrest.sets import fewer_by_one, leave_out, put_in
+from takersrest.sets import fewer_by_one, leave_out, put_in, union
 from takersrest.smaller import circuits, free_sets
 
 
@@ -45,9 +45,9 @@ def _fault_thing(first, second, free):
     common = [thing for thing in first if thing in second]
     if len(common) == 0:
         return None
-    union = tuple(sorted(set(first + second)))
+    whole = union(first, second)
     for thing in common:
-        if leave_out(union, thing) in free:
+        if leave_out(whole, thing) in free:
             return thing
     return None
 

@@ -1,7 +1,7 @@
 """Offers: how they are made, their free sets, and which of them are smooth."""
 
 from takersrest.errors import BadThing, NestedLots, NoLots
-from takersrest.sets import exchange, lies_within, subsets
+from takersrest.sets import difference, exchange, lies_within, subsets
 
 
 def make_offer(size, lots):
@@ -54,24 +54,30 @@ def opposite(offer):
 
 
 def _things_missing(size, lot):
-    return tuple([thing for thing in range(size) if thing not in lot])
+    return difference(tuple(range(size)), lot)
 
 
 def first_fault(offer):
     """Return the first fault as a triple, or None if the offer is smooth."""
     lots = offer[1]
-    known = {lot: True for lot in lots}
+    known = known_lots(offer)
     for lot in lots:
         for out in lot:
-            partners = _partners(offer, known, lot, out)
+            # The same for every other lot, so it is worked out once for each lot and thing.
+            partners = replacements(offer, known, lot, out)
             for other in lots:
                 if out not in other and not any(thing in partners for thing in other):
                     return lot, out, other
     return None
 
 
-def _partners(offer, known, lot, out):
-    # The same for every other lot, so it is worked out once for each lot and thing.
+def known_lots(offer):
+    """Return a dict whose keys are the lots."""
+    return {lot: True for lot in offer[1]}
+
+
+def replacements(offer, known, lot, out):
+    """Return the list of all things that make a lot again in the place of out; known has the lots as its keys."""
     missing = _things_missing(offer[0], lot)
     return [thing for thing in missing if exchange(lot, out, thing) in known]
 

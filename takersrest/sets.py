@@ -32,3 +32,13 @@ def subsets(things, count):
     """Return the list of all sets of count of the things, in ascending order."""
     row = list(things)
     return list(combinations(row, count))
+
+
+def union(first, second):
+    """Return the set of all things that are in one of the two sets or in both."""
+    return tuple(sorted(set(first + second)))
+
+
+def difference(first, second):
+    """Return the set of the things of first that are not in second."""
+    return tuple([thing for thing in first if thing not in second])

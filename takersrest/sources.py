@@ -3,6 +3,7 @@
 from math import gcd
 
 from takersrest.greatest import greatest_sets
+from takersrest.matching import matched
 
 
 def columns(rows, size):
@@ -55,23 +56,13 @@ def _shortened(row):
 
 def seats(size, groups):
     """Return the offer of seats in the groups."""
-    return size, greatest_sets(size, lambda things: _can_sit(things, groups))
+    open_to = [_groups_with(thing, groups) for thing in range(size)]
+    return size, greatest_sets(size, lambda things: _can_sit(things, open_to))
 
 
-def _can_sit(things, groups):
-    seated = {}
-    for thing in things:
-        if not _find_seat(thing, groups, seated, {}):
-            return False
-    return True
+def _groups_with(thing, groups):
+    return [position for position, group in enumerate(groups) if thing in group]
 
 
-def _find_seat(thing, groups, seated, tried):
-    """Seat the thing in a group that has it, moving seated things to other groups where this is needed."""
-    for position, group in enumerate(groups):
-        if thing in group and position not in tried:
-            tried[position] = True
-            if position not in seated or _find_seat(seated[position], groups, seated, tried):
-                seated[position] = thing
-                return True
-    return False
+def _can_sit(things, open_to):
+    return matched({thing: open_to[thing] for thing in things}) is not None

@@ -114,3 +114,87 @@ def have_fraction_rank(rows, things):
             if row is not pivot
         ]
     return found
+
+
+def random_numbers(seed):
+    """A function that gives the next of a row of numbers, from 0 to less than its argument, always the same row."""
+    state = [seed]
+
+    def draw(many):
+        state[0] = (state[0] * 1103515245 + 12345) & 0x7FFFFFFF
+        return (state[0] >> 8) % many
+
+    return draw
+
+
+def some_smooth_offers():
+    return [offer for offer in some_offers() if is_smooth_by_words(offer)]
+
+
+def some_rough_offers():
+    return [offer for offer in some_offers() if not is_smooth_by_words(offer)]
+
+
+def exchanges_by_words(offer, lot):
+    return [
+        (out, into) for out in lot for into in range(offer[0])
+        if into not in lot and swapped(lot, out, into) in offer[1]
+    ]
+
+
+def price_by_words(things, prices):
+    total = 0
+    for thing in things:
+        total += prices[thing]
+    return total
+
+
+def some_prices(size, seed):
+    """Some price rows: with prices below 0, equal ones and great ones."""
+    draw = random_numbers(seed)
+    rows = [tuple([value] * size) for value in (0, 1, -1)]
+    rows += [tuple(draw(3) - 1 for _ in range(size)) for _ in range(3)]
+    rows += [tuple(draw(9) - 4 for _ in range(size)) for _ in range(3)]
+    rows.append(tuple((draw(5) - 2) * 10 ** 40 + draw(2) for _ in range(size)))
+    return rows
+
+
+def random_costs(draw, size, room, least, most):
+    """A cost table with entries that rise by small steps from an entry of at least least."""
+    return tuple(
+        tuple(sorted(least + draw(most - least + 1) for _ in range(room)))
+        for _ in range(size)
+    )
+
+
+def load_by_words(choice, thing):
+    return len([lot for lot in choice if thing in lot])
+
+
+def pay_by_words(game, choice, taker):
+    costs = game[taker][1]
+    return sum(costs[thing][load_by_words(choice, thing) - 1] for thing in choice[taker])
+
+
+def changed_choice(choice, taker, lot):
+    return choice[:taker] + (lot,) + choice[taker + 1:]
+
+
+def pays_by_lot(game, choice, taker):
+    """What the taker would pay for each lot of its offer if the others keep theirs."""
+    return [pay_by_words(game, changed_choice(choice, taker, lot), taker) for lot in game[taker][0][1]]
+
+
+def is_rest_by_words(game, choice):
+    return all(
+        pay_by_words(game, choice, taker) <= min(pays_by_lot(game, choice, taker))
+        for taker in range(len(game))
+    )
+
+
+def random_game(draw, offers, takers, room, least=0, most=6):
+    """A game of as many takers with offers from the list and costs of their own."""
+    return tuple(
+        (offer, random_costs(draw, offer[0], room, least, most))
+        for offer in [offers[draw(len(offers))] for _ in range(takers)]
+    )

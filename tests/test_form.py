@@ -51,6 +51,20 @@ INTERFACE = {
         "from_circuits(size, barred)", "circuit_fault(offer)", "pieces(offer)", "piece_offer(offer, things)",
     ),
     "lines": ("way_lines(points, roads, start, end)", "pair_mates(points, roads)"),
+    "pricing": (
+        "price(things, prices)", "cheapest(offer, prices)", "best_exchange(offer, lot, prices)",
+        "greedy_lot(offer, prices)", "trap(offer)",
+    ),
+    "swaps": (
+        "swap(offer, first, second, thing)", "partners_of(offer, first, second)", "cheapest_offer(offer, prices)",
+        "together(first, second)", "spare(first, second)",
+    ),
+    "costs": ("make_costs(rows, room)", "straight_costs(rates, room)"),
+    "games": (
+        "make_game(takers)", "loads(game, choice)", "pay(game, choice, taker)", "own_prices(game, choice, taker)",
+        "best_lot(game, choice, taker)", "gain(game, choice, taker)", "first_gain(game, choice)",
+        "single_gain(game, choice)", "is_rest(game, choice)", "choices(game)", "rests(game)",
+    ),
 }
 
 
