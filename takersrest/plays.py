@@ -4,6 +4,8 @@ Both are told here by their players: a list of triples (offer, costs, weight). I
 """
 
 from takersrest.costs import cost_at
+from takersrest.errors import NotSmooth
+from takersrest.offers import is_smooth
 from takersrest.pricing import best_exchange, cheapest, price
 
 
@@ -13,6 +15,11 @@ def all_choices(players):
     for player in players:
         found = [choice + (lot,) for choice in found for lot in player[0][1]]
     return found
+
+
+def with_lot(choice, taker, lot):
+    """Return the choice in which the taker has this lot and the others keep theirs."""
+    return choice[:taker] + (lot,) + choice[taker + 1:]
 
 
 def count_loads(size, players, choice):
@@ -61,3 +68,10 @@ def first_exchange_for(players, choice):
 def all_rests(players):
     """Return the list of all choices at rest in ascending order."""
     return [choice for choice in all_choices(players) if first_gain_for(players, choice) is None]
+
+
+def check_smooth(offers):
+    """Raise NotSmooth with the position of the first offer that is not smooth."""
+    for taker, offer in enumerate(offers):
+        if not is_smooth(offer):
+            raise NotSmooth(taker)

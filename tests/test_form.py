@@ -65,6 +65,21 @@ INTERFACE = {
         "best_lot(game, choice, taker)", "gain(game, choice, taker)", "first_gain(game, choice)",
         "single_gain(game, choice)", "is_rest(game, choice)", "choices(game)", "rests(game)",
     ),
+    "growth": ("replay(game, log)", "grow(game)"),
+    "clashes": (
+        "tight(offer)", "judge_tight(offer, paper)", "clash(offer)", "heavy_clash(offer)",
+        "judge_clash(offer, game, names)", "judge_heavy_clash(offer, game, names)",
+    ),
+    "heavy": (
+        "make_heavy(costs, takers)", "heavy_loads(game, choice)", "heavy_pay(game, choice, taker)",
+        "heavy_prices(game, choice, taker)", "heavy_best_lot(game, choice, taker)",
+        "heavy_gain(game, choice, taker)", "heavy_first_gain(game, choice)", "heavy_is_rest(game, choice)",
+        "heavy_choices(game)", "heavy_rests(game)", "cost_row(game, choice)", "heavy_settle(game, choice)",
+    ),
+    "alike": (
+        "are_alike(game)", "crowd_sum(game, choice)", "settle(game, choice)", "tolled(costs)",
+        "total(game, choice)", "least_total(game)", "dear_game()",
+    ),
 }
 
 

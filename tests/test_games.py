@@ -78,6 +78,8 @@ class MakeGame(unittest.TestCase):
         self.assert_raises_with(SmallRoom, 0, [small, good])
         self.assert_raises_with(SmallRoom, 0, [good, good, good])
         self.assert_raises_with(SmallRoom, 0, [(ONE, ((), ()))])
+        self.assert_raises_with(SmallRoom, 0, [(choose(1, 1), ((5,),))] * 2)
+        self.assertEqual(len(make_game([(choose(1, 1), ((5, 5),))] * 2)), 2)
 
     def test_size_0_has_no_small_room(self):
         nothing = ((0, ((),)), ())
