@@ -17,6 +17,11 @@ def all_choices(players):
     return found
 
 
+def first_lots(offers):
+    """Return the choice of the first lot of each offer."""
+    return tuple([lots[0] for _, lots in offers])
+
+
 def with_lot(choice, taker, lot):
     """Return the choice in which the taker has this lot and the others keep theirs."""
     return choice[:taker] + (lot,) + choice[taker + 1:]

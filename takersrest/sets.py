@@ -42,3 +42,8 @@ def union(first, second):
 def difference(first, second):
     """Return the set of the things of first that are not in second."""
     return tuple([thing for thing in first if thing not in second])
+
+
+def count_sets(size, sets):
+    """Return the list that has, for each thing, the number of the sets with it."""
+    return [len([things for things in sets if thing in things]) for thing in range(size)]

@@ -1,7 +1,7 @@
 """What several tests need: the words of the document, tried on every small offer."""
 
 from fractions import Fraction
-from itertools import combinations
+from itertools import combinations, product
 
 
 def all_sets(size):
@@ -198,3 +198,52 @@ def random_game(draw, offers, takers, room, least=0, most=6):
         (offer, random_costs(draw, offer[0], room, least, most))
         for offer in [offers[draw(len(offers))] for _ in range(takers)]
     )
+
+
+def choices_of(game):
+    return list(product(*[taker[0][1] for taker in game]))
+
+
+def crowd_sum_by_words(game, choice):
+    if not game:
+        return 0
+    return sum(
+        row[load - 1]
+        for thing, row in enumerate(game[0][1])
+        for load in range(1, load_by_words(choice, thing) + 1)
+    )
+
+
+def fits_by_words(game, choice, prices):
+    """Whether the price row fits the choice, by the words of point 41."""
+    for (offer, _), lot in zip(game, choice):
+        if any(price_by_words(other, prices) < price_by_words(lot, prices) for other in offer[1]):
+            return False
+    for thing, row in enumerate(game[0][1]):
+        load = load_by_words(choice, thing)
+        if load >= 1 and prices[thing] < row[load - 1]:
+            return False
+        if load < len(game) and prices[thing] > row[load]:
+            return False
+    return True
+
+
+def ranks_of(offers, things):
+    return sum(rank_by_words(offer, things) for offer in offers)
+
+
+def is_bar_by_words(offers, limit, things):
+    """Whether the set is a bar, by the words of point 35."""
+    size = offers[0][0]
+    missing = len([thing for thing in range(size) if thing not in things])
+    everything = tuple(range(size))
+    return is_set(size, things) and limit * missing + ranks_of(offers, things) < ranks_of(offers, everything)
+
+
+def smooth_by_size():
+    """A list that has at each size up to 7 all of the smooth offers of this size in some_smooth_offers."""
+    found = [[] for _ in range(8)]
+    for offer in some_smooth_offers():
+        if offer[0] < 8:
+            found[offer[0]].append(offer)
+    return found

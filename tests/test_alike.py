@@ -1,5 +1,4 @@
 import unittest
-from itertools import product
 
 from takersrest.alike import are_alike, crowd_sum, dear_game, least_total, settle, tolled, total
 from takersrest.builders import choose
@@ -7,23 +6,13 @@ from takersrest.costs import make_costs, straight_costs
 from takersrest.errors import FallingCosts, UnlikeCosts
 from takersrest.games import is_rest, make_game, rests
 from tests.helpers import (
-    all_offers, changed_choice, is_rest_by_words, load_by_words, pay_by_words, pays_by_lot, random_costs, random_game,
-    random_numbers,
+    all_offers, changed_choice, choices_of, crowd_sum_by_words, is_rest_by_words, pay_by_words, pays_by_lot,
+    random_costs, random_game, random_numbers,
 )
 
 WAYS = (3, ((0, 2), (1,)))
 ONE = choose(2, 1)
 UNLIKE = ((ONE, ((1, 2), (1, 2))), (ONE, ((1, 2), (1, 3))))
-
-
-def crowd_sum_by_words(game, choice):
-    if not game:
-        return 0
-    return sum(
-        row[load - 1]
-        for thing, row in enumerate(game[0][1])
-        for load in range(1, load_by_words(choice, thing) + 1)
-    )
 
 
 def total_by_words(game, choice):
@@ -53,10 +42,6 @@ def some_alike_games():
                 costs = random_costs(draw, size, takers + draw(2), least, most)
                 games.append(tuple((offers[draw(len(offers))], costs) for _ in range(takers)))
     return games
-
-
-def choices_of(game):
-    return list(product(*[taker[0][1] for taker in game]))
 
 
 class AreAlike(unittest.TestCase):

@@ -80,7 +80,22 @@ INTERFACE = {
         "are_alike(game)", "crowd_sum(game, choice)", "settle(game, choice)", "tolled(costs)",
         "total(game, choice)", "least_total(game)", "dear_game()",
     ),
+    "posted": (
+        "better_choice(game, choice)", "best_choice(game)", "posted_prices(game, choice)",
+        "judge_posted(game, choice, prices)",
+    ),
+    "apart": ("apart(offers, limit)", "bar(offers, limit)"),
+    "rings": ("round_game()", "is_ring(game, ring)", "joint_gain(game, choice)"),
 }
+
+# The classes of the interface that have landed, with the arguments of their methods behind self.
+CLASSES = {
+    "hall.Hall": (
+        "__init__(size, room)", "enter(offer, costs)", "leave(number)", "change(number, costs)", "undo()", "places()",
+        "game()", "loads()",
+    ),
+}
+PROPERTIES = {"hall.Hall": ("exchanges",)}
 
 
 def parsed(path):
@@ -116,6 +131,11 @@ def bound_names(tree):
 
 def called_name(node):
     return node.func.id if isinstance(node, ast.Call) and isinstance(node.func, ast.Name) else None
+
+
+def arguments(function):
+    code = function.__code__
+    return code.co_varnames[:code.co_argcount]
 
 
 class Form(unittest.TestCase):
@@ -191,7 +211,21 @@ class Form(unittest.TestCase):
             if isinstance(node.value, str):
                 self.assertNotIn("%", node.value, place)
         for place, node in nodes(ast.FunctionDef, ast.ClassDef):
-            self.assertEqual(node.decorator_list, [], place)
+            decorators = [decorator.id for decorator in node.decorator_list]
+            in_class = isinstance(node.parent, ast.ClassDef)
+            self.assertIn(decorators, ([], ["property"]) if in_class else ([],), place)
+
+    def test_properties_only_read(self):
+        for place, node in nodes(ast.FunctionDef):
+            if node.decorator_list:
+                self.assertEqual([type(step) for step in node.body], [ast.Expr, ast.Return], place)
+                self.assertEqual([part for part in ast.walk(node.body[1]) if isinstance(part, ast.Call)], [], place)
+
+    def test_names_of_methods_are_no_attributes(self):
+        methods = {n.name for _, kind in nodes(ast.ClassDef) for n in kind.body if isinstance(n, ast.FunctionDef)}
+        for place, node in nodes(ast.Attribute):
+            if isinstance(node.ctx, ast.Store):
+                self.assertNotIn(node.attr, methods, place)
 
     def test_names(self):
         everything = set(dir(builtins))
@@ -259,8 +293,19 @@ class Interface(unittest.TestCase):
                     called, _, rest = signature.partition("(")
                     function = getattr(module, called)
                     self.assertEqual(function.__module__, "takersrest." + name)
-                    code = function.__code__
-                    self.assertEqual(", ".join(code.co_varnames[:code.co_argcount]) + ")", rest)
+                    self.assertEqual(", ".join(arguments(function)) + ")", rest)
+
+    def test_each_method_stands_in_its_class(self):
+        for name, signatures in CLASSES.items():
+            file, _, called = name.partition(".")
+            kind = getattr(importlib.import_module("takersrest." + file), called)
+            self.assertEqual(kind.__module__, "takersrest." + file)
+            for signature in signatures:
+                with self.subTest(name=name, signature=signature):
+                    method, _, rest = signature.partition("(")
+                    self.assertEqual(", ".join(arguments(vars(kind)[method])[1:]) + ")", rest)
+            for known in PROPERTIES.get(name, ()):
+                self.assertIsInstance(vars(kind)[known], property)
 
 
 if __name__ == "__main__":
