@@ -23,7 +23,8 @@ def _check_things(size, lots):
 def _check_nesting(lots):
     for inner in lots:
         for outer in lots:
-            if inner != outer and lies_within(inner, outer):
+            # A set lies within no other set of as many things.
+            if len(inner) < len(outer) and lies_within(inner, outer):
                 raise NestedLots(inner, outer)
 
 

@@ -31,7 +31,7 @@ class Roll:
         """Return the tuple of all pairs of a number and a lot."""
         return tuple(zip(self.numbers, self.lots))
 
-    def bring(self, taker, lots, moved):
+    def bring(self, taker, lots, moved=0):
         """Bring the taker in; lots are those of all takers behind this deed. Return its number."""
         number = self.coming
         self._keep()
@@ -42,7 +42,7 @@ class Roll:
         self.moved = self.moved + moved
         return number
 
-    def release(self, position, lots, moved):
+    def release(self, position, lots, moved=0):
         """Take the taker out."""
         self._keep()
         self.numbers = left_out(self.numbers, position)

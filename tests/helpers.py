@@ -204,6 +204,13 @@ def choices_of(game):
     return list(product(*[taker[0][1] for taker in game]))
 
 
+def count_choices(offers):
+    count = 1
+    for _, lots in offers:
+        count *= len(lots)
+    return count
+
+
 def crowd_sum_by_words(game, choice):
     if not game:
         return 0

@@ -35,7 +35,7 @@ BARRED = set((
 AT_ONCE = set("list tuple dict sorted sum any all enumerate zip min max".split())
 VIEWS = {"items", "keys", "values"}
 
-# The functions of the interface that have landed, with their arguments.
+# The functions of the interface, with their arguments.
 INTERFACE = {
     "offers": (
         "make_offer(size, lots)", "is_free(offer, things)", "rank(offer, things)", "cut(offer, count)",
@@ -86,13 +86,22 @@ INTERFACE = {
     ),
     "apart": ("apart(offers, limit)", "bar(offers, limit)"),
     "rings": ("round_game()", "is_ring(game, ring)", "joint_gain(game, choice)"),
+    "writing": ("write_game(game)", "write_log(log)"),
+    "reading": ("read_game(text)", "read_log(text)"),
 }
 
-# The classes of the interface that have landed, with the arguments of their methods behind self.
+# The classes of the interface, with the arguments of their methods behind self.
 CLASSES = {
     "hall.Hall": (
         "__init__(size, room)", "enter(offer, costs)", "leave(number)", "change(number, costs)", "undo()", "places()",
         "game()", "loads()",
+    ),
+    "market.Market": (
+        "__init__(costs, room)", "enter(offer)", "leave(number)", "undo()", "places()", "game()", "prices()", "loads()",
+        "crowd()",
+    ),
+    "deal.Deal": (
+        "__init__(size, limit)", "enter(offer)", "leave(number)", "undo()", "places()", "free_places()",
     ),
 }
 PROPERTIES = {"hall.Hall": ("exchanges",)}

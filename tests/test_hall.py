@@ -1,14 +1,12 @@
 import unittest
 
 from takersrest.builders import choose, parts, renamed, trees
-from takersrest.errors import HallFull, NothingToUndo, RoughOffer, UnknownTaker, WrongSize
+from takersrest.errors import HallFull, NothingToUndo, UnknownTaker, WrongSize
 from takersrest.hall import Hall
 from tests.helpers import (
-    faults_by_words, is_rest_by_words, load_by_words, random_costs, random_numbers, ranks_of, smooth_by_size,
+    is_rest_by_words, load_by_words, random_costs, random_numbers, ranks_of, smooth_by_size,
 )
-
-WAYS = (3, ((0, 2), (1,)))
-GREAT = 10 ** 4000
+from tests.watched import GREAT, WAYS, Refusals, Watched
 
 
 def seen(hall):
@@ -16,78 +14,58 @@ def seen(hall):
     return hall.places(), hall.game(), hall.loads(), hall.exchanges
 
 
-def lots_of(hall):
-    return tuple(lot for _, lot in hall.places())
-
-
-class Watched:
-    """A hall beside a plain record of what it has to show; each deed is judged by the words of points 29 to 31."""
+class WatchedHall(Watched):
+    """A hall in which each deed is judged by the words of points 29 to 31."""
 
     def __init__(self, test, size, room):
-        self.test = test
+        Watched.__init__(self, test, Hall(size, room), seen)
         self.size = size
-        self.hall = Hall(size, room)
-        self.takers = {}
-        self.following = 1
-        self.past = []
         self.made = 0
         self.check()
 
     def check(self):
-        hall, test = self.hall, self.test
-        test.assertIs(type(hall.places()), tuple)
-        test.assertTrue(all(type(pair) is tuple for pair in hall.places()))
-        test.assertEqual([number for number, _ in hall.places()], sorted(self.takers))
+        self.check_places()
+        hall, test = self.kept, self.test
         test.assertIs(type(hall.game()), tuple)
         test.assertEqual(hall.game(), tuple(self.takers[number] for number in sorted(self.takers)))
-        for (offer, _), lot in zip(hall.game(), lots_of(hall)):
-            test.assertIn(lot, offer[1])
-        test.assertTrue(is_rest_by_words(hall.game(), lots_of(hall)))
+        test.assertTrue(is_rest_by_words(hall.game(), self.lots()))
         test.assertIs(type(hall.loads()), tuple)
-        test.assertEqual(hall.loads(), tuple(load_by_words(lots_of(hall), thing) for thing in range(self.size)))
+        test.assertEqual(hall.loads(), tuple(load_by_words(self.lots(), thing) for thing in range(self.size)))
         test.assertIs(type(hall.exchanges), int)
 
-    def deed(self, number, times, act):
-        """Do a deed of the taker with this number and judge it."""
-        before = dict(self.hall.places())
-        offers = [offer for offer, _ in self.hall.game()]
-        made = self.hall.exchanges
-        self.past.append((seen(self.hall), dict(self.takers), self.following))
+    def judge(self, number, times, act):
+        """Do a deed of the taker with this number and judge its exchanges."""
+        before = dict(self.kept.places())
+        earlier = self.kept.exchanges
+        offers = self.offers()
         act()
         self.check()
-        after = dict(self.hall.places())
+        made = self.kept.exchanges - earlier
+        after = dict(self.kept.places())
         others = [known for known in before if known in after and known != number]
         gained = sum(len(set(after[known]) - set(before[known])) for known in others)
         if number not in before:
             offers.append(self.takers[number][0])
         ranks = ranks_of(offers, tuple(range(self.size)))
-        self.made += self.hall.exchanges - made
-        self.test.assertGreaterEqual(self.hall.exchanges - made, gained)
-        self.test.assertLessEqual(self.hall.exchanges - made, times * ranks * ranks * self.size)
+        self.test.assertGreaterEqual(made, gained)
+        self.test.assertLessEqual(made, times * ranks * ranks * self.size)
+        self.made += made
 
     def enter(self, offer, costs):
-        def act():
-            self.takers[self.following] = (offer, costs)
-            self.following += 1
-            self.test.assertEqual(self.hall.enter(offer, costs), self.following - 1)
-        self.deed(self.following, 1, act)
+        self.judge(self.following, 1, lambda: self.let_in(offer, costs))
 
     def leave(self, number):
-        def act():
-            del self.takers[number]
-            self.test.assertIsNone(self.hall.leave(number))
-        self.deed(number, 1, act)
+        self.judge(number, 1, lambda: self.let_out(number))
 
     def change(self, number, costs):
         def act():
+            self.remember()
+            self.test.assertIsNone(self.kept.change(number, costs))
             self.takers[number] = (self.takers[number][0], costs)
-            self.test.assertIsNone(self.hall.change(number, costs))
-        self.deed(number, 2, act)
+        self.judge(number, 2, act)
 
     def undo(self):
-        self.test.assertIsNone(self.hall.undo())
-        shown, self.takers, self.following = self.past.pop()
-        self.test.assertEqual(seen(self.hall), shown)
+        self.take_back()
         self.check()
 
 
@@ -138,59 +116,59 @@ class Deeds(unittest.TestCase):
 
     def test_gaps_are_filled_by_a_row_of_exchanges(self):
         # Each taker would rather have the thing of the one before it.
-        watched = Watched(self, 4, 4)
+        watched = WatchedHall(self, 4, 4)
         rows = {0: (0, 9, 9, 9), 1: (5, 6, 7, 8)}
         watched.enter(choose(4, 1), ((0,) * 4,) + ((99,) * 4,) * 3)
         for own in range(3):
             watched.enter(choose(4, 1), tuple(rows.get(thing - own, (99,) * 4) for thing in range(4)))
-        self.assertEqual(lots_of(watched.hall), ((0,), (1,), (2,), (3,)))
+        self.assertEqual(watched.lots(), ((0,), (1,), (2,), (3,)))
         watched.leave(1)
-        self.assertEqual(lots_of(watched.hall), ((0,), (1,), (2,)))
-        self.assertEqual(watched.hall.exchanges, 3)
+        self.assertEqual(watched.lots(), ((0,), (1,), (2,)))
+        self.assertEqual(watched.kept.exchanges, 3)
 
     def test_the_best_one_fills_a_gap(self):
         # Behind the leaving of 2 only the best exchange leaves the first one at rest.
-        watched = Watched(self, 4, 2)
+        watched = WatchedHall(self, 4, 2)
         watched.enter(choose(4, 2), ((0, 9), (5, 5), (7, 7), (9, 9)))
         watched.enter((4, ((0,),)), ((0, 0),) * 4)
-        self.assertEqual(watched.hall.places(), ((1, (1, 2)), (2, (0,))))
+        self.assertEqual(watched.kept.places(), ((1, (1, 2)), (2, (0,))))
         watched.leave(2)
-        self.assertEqual(watched.hall.places(), ((1, (0, 1)),))
-        self.assertEqual(watched.hall.exchanges, 2)
+        self.assertEqual(watched.kept.places(), ((1, (0, 1)),))
+        self.assertEqual(watched.kept.exchanges, 2)
 
     def test_size_0(self):
-        watched = Watched(self, 0, 2)
+        watched = WatchedHall(self, 0, 2)
         watched.enter((0, ((),)), ())
         watched.enter((0, ((),)), ())
         watched.change(1, ())
         watched.leave(1)
-        self.assertEqual(seen(watched.hall), (((2, ()),), (((0, ((),)), ()),), (), 0))
+        self.assertEqual(seen(watched.kept), (((2, ()),), (((0, ((),)), ()),), (), 0))
 
     def test_size_1(self):
-        watched = Watched(self, 1, 3)
+        watched = WatchedHall(self, 1, 3)
         for costs in (((1, 2, 3),), ((0, 0, 0),), ((-7, 0, 7),)):
             watched.enter((1, ((0,),)), costs)
-        self.assertEqual(watched.hall.loads(), (3,))
+        self.assertEqual(watched.kept.loads(), (3,))
         watched.change(2, ((5, 5, 5),))
         watched.leave(1)
-        self.assertEqual(watched.hall.places(), ((2, (0,)), (3, (0,))))
-        self.assertEqual(watched.hall.exchanges, 0)
+        self.assertEqual(watched.kept.places(), ((2, (0,)), (3, (0,))))
+        self.assertEqual(watched.kept.exchanges, 0)
 
     def test_equal_tables(self):
-        watched = Watched(self, 4, 3)
+        watched = WatchedHall(self, 4, 3)
         costs = ((1, 2, 3), (1, 2, 3), (2, 2, 2), (2, 2, 2))
         for _ in range(3):
             watched.enter(choose(4, 2), costs)
         for number in (1, 2, 3, 2):
             watched.change(number, tuple(tuple(row) for row in costs))
-        self.assertEqual(watched.hall.game(), ((choose(4, 2), costs),) * 3)
+        self.assertEqual(watched.kept.game(), ((choose(4, 2), costs),) * 3)
 
     def test_great_costs(self):
-        watched = Watched(self, 2, 2)
+        watched = WatchedHall(self, 2, 2)
         watched.enter(choose(2, 1), ((GREAT, GREAT + 2), (GREAT + 1, GREAT + 3)))
-        self.assertEqual(watched.hall.places(), ((1, (0,)),))
+        self.assertEqual(watched.kept.places(), ((1, (0,)),))
         watched.enter(choose(2, 1), ((-GREAT, -GREAT), (1 - GREAT, 2 - GREAT)))
-        self.assertEqual(watched.hall.places(), ((1, (1,)), (2, (0,))))
+        self.assertEqual(watched.kept.places(), ((1, (1,)), (2, (0,))))
 
     def test_two_halls_side_by_side(self):
         first, second = Hall(2, 2), Hall(2, 2)
@@ -237,15 +215,15 @@ class ByWords(unittest.TestCase):
         for size in range(5):
             for room in (0, 1, 2, 4, 6):
                 for least, most in ((0, 3), (-6, 6), (-40, 60), (2, 2)):
-                    watched = Watched(self, size, room)
+                    watched = WatchedHall(self, size, room)
                     for _ in range(30):
                         self.act(watched, draw, smooth[size], room, least, most)
                     made += watched.made
                     while watched.past:
                         watched.undo()
-                    self.assertEqual(seen(watched.hall), ((), (), (0,) * size, 0))
+                    self.assertEqual(seen(watched.kept), ((), (), (0,) * size, 0))
                     with self.assertRaises(NothingToUndo):
-                        watched.hall.undo()
+                        watched.kept.undo()
         self.assertGreater(made, 100)
 
     def test_greater_halls(self):
@@ -255,14 +233,14 @@ class ByWords(unittest.TestCase):
             parts(((2, 1), (2, 1), (2, 1))), renamed(parts(((3, 2), (3, 1))), (5, 0, 3, 1, 4, 2), 6),
         ]
         for least, most in ((-20, 20), (0, 5), (0, 200)):
-            watched = Watched(self, 6, 6)
+            watched = WatchedHall(self, 6, 6)
             for _ in range(40):
                 self.act(watched, draw, offers, 6, least, most)
             self.assertGreater(watched.made, 10)
 
     def test_twelve_things(self):
         draw = random_numbers(31)
-        watched = Watched(self, 12, 6)
+        watched = WatchedHall(self, 12, 6)
         for offer in (choose(12, 2), choose(12, 11), (12, (tuple(range(12)),)), parts(((2, 1),) * 6)):
             watched.enter(offer, random_costs(draw, 12, 6, -99, 99))
         watched.change(1, random_costs(draw, 12, 6, -99, 99))
@@ -271,28 +249,16 @@ class ByWords(unittest.TestCase):
 
 class Undoing(unittest.TestCase):
     def test_down_to_the_empty_hall(self):
-        watched = Watched(self, 2, 2)
+        watched = WatchedHall(self, 2, 2)
         watched.enter(choose(2, 1), ((0, 5), (1, 2)))
         watched.enter(choose(2, 1), ((0, 0), (9, 9)))
         watched.change(1, ((9, 9), (0, 0)))
         watched.leave(2)
         for _ in range(4):
             watched.undo()
-        self.assertEqual(seen(watched.hall), ((), (), (0, 0), 0))
+        self.assertEqual(seen(watched.kept), ((), (), (0, 0), 0))
         with self.assertRaises(NothingToUndo):
-            watched.hall.undo()
-
-    def test_the_next_number(self):
-        hall = Hall(2, 3)
-        costs = ((1, 2, 3), (1, 2, 3))
-        hall.enter(choose(2, 1), costs)
-        hall.enter(choose(2, 1), costs)
-        hall.undo()
-        self.assertEqual(hall.enter(choose(2, 2), costs), 2)
-        hall.leave(2)
-        hall.undo()
-        self.assertEqual([number for number, _ in hall.places()], [1, 2])
-        self.assertEqual(hall.enter(choose(2, 1), costs), 3)
+            watched.kept.undo()
 
     def test_deeds_behind_undoing(self):
         hall = Hall(2, 2)
@@ -320,29 +286,17 @@ class Undoing(unittest.TestCase):
         self.assertEqual(hall.enter((1, ((0,),)), ((1, 2),)), 1)
 
 
-class Errors(unittest.TestCase):
+class Errors(Refusals, unittest.TestCase):
     def setUp(self):
         self.costs = ((1, 2), (1, 2), (1, 2))
-        self.hall = Hall(3, 2)
-        self.hall.enter(choose(3, 1), self.costs)
+        self.kept = Hall(3, 2)
+        self.enter(choose(3, 1))
 
-    def assert_refused(self, error, act):
-        """The call raises the error, changes nothing and is no deed; returns the error."""
-        before = seen(self.hall)
-        with self.assertRaises(error) as caught:
-            act()
-        self.assertIs(type(caught.exception), error)
-        self.assertEqual(seen(self.hall), before)
-        return caught.exception
+    def seen(self, hall):
+        return seen(hall)
 
-    def assert_one_deed(self):
-        """What was refused is not there to be undone, and has taken no number."""
-        self.assertEqual(self.hall.enter(choose(3, 1), self.costs), 2)
-        self.hall.undo()
-        self.hall.undo()
-        self.assertEqual(seen(self.hall), ((), (), (0, 0, 0), 0))
-        with self.assertRaises(NothingToUndo):
-            self.hall.undo()
+    def enter(self, offer):
+        return self.kept.enter(offer, self.costs)
 
     def wrong_tables(self):
         return [
@@ -351,58 +305,44 @@ class Errors(unittest.TestCase):
         ]
 
     def test_hall_full(self):
-        self.hall.enter(choose(3, 1), self.costs)
+        self.enter(choose(3, 1))
         for offer in (choose(3, 1), choose(2, 1), WAYS):
             for costs in [self.costs] + self.wrong_tables():
-                self.assert_refused(HallFull, lambda: self.hall.enter(offer, costs))
-        self.hall.leave(1)
-        self.assertEqual(self.hall.enter(choose(3, 1), self.costs), 3)
+                self.assert_refused(HallFull, lambda: self.kept.enter(offer, costs))
+        self.kept.leave(1)
+        self.assertEqual(self.enter(choose(3, 1)), 3)
 
     def test_room_0(self):
-        self.hall = Hall(3, 0)
-        self.assert_refused(HallFull, lambda: self.hall.enter(choose(3, 1), ((), (), ())))
-        self.assert_refused(HallFull, lambda: self.hall.enter(WAYS, self.costs))
-        self.assert_refused(UnknownTaker, lambda: self.hall.leave(1))
-        self.assert_refused(NothingToUndo, lambda: self.hall.undo())
+        self.kept = Hall(3, 0)
+        self.assert_refused(HallFull, lambda: self.kept.enter(choose(3, 1), ((), (), ())))
+        self.assert_refused(HallFull, lambda: self.enter(WAYS))
+        self.assert_refused(UnknownTaker, lambda: self.kept.leave(1))
+        self.assert_refused(NothingToUndo, lambda: self.kept.undo())
 
-    def test_wrong_size_of_an_offer(self):
+    def test_tables_of_the_size_of_a_wrong_offer(self):
         for offer in (choose(2, 1), choose(4, 1), (0, ((),)), (4, ((0, 2), (1,)))):
-            self.assert_refused(WrongSize, lambda: self.hall.enter(offer, self.costs))
-            self.assert_refused(WrongSize, lambda: self.hall.enter(offer, self.costs[:1] * offer[0]))
+            self.assert_refused(WrongSize, lambda: self.kept.enter(offer, self.costs[:1] * offer[0]))
         self.assert_one_deed()
 
-    def test_wrong_size_of_a_table(self):
+    def test_wrong_tables(self):
         for costs in self.wrong_tables():
             for offer in (choose(3, 1), WAYS):
-                self.assert_refused(WrongSize, lambda: self.hall.enter(offer, costs))
-            self.assert_refused(WrongSize, lambda: self.hall.change(1, costs))
+                self.assert_refused(WrongSize, lambda: self.kept.enter(offer, costs))
+            self.assert_refused(WrongSize, lambda: self.kept.change(1, costs))
         self.assert_one_deed()
 
-    def test_rough_offers(self):
-        for offer in (WAYS, (3, ((0,), (1, 2))), (3, ((0, 1), (2,)))):
-            error = self.assert_refused(RoughOffer, lambda: self.hall.enter(offer, self.costs))
-            self.assertEqual(error.fault, faults_by_words(offer)[0])
-        self.assert_one_deed()
-
-    def test_unknown_takers(self):
+    def test_changing_unknown_takers(self):
         for number in (0, 2, -1, GREAT):
-            error = self.assert_refused(UnknownTaker, lambda: self.hall.leave(number))
-            self.assertEqual(error.number, number)
             for costs in [self.costs] + self.wrong_tables():
-                error = self.assert_refused(UnknownTaker, lambda: self.hall.change(number, costs))
+                error = self.assert_refused(UnknownTaker, lambda: self.kept.change(number, costs))
                 self.assertEqual(error.number, number)
         self.assert_one_deed()
 
-    def test_takers_who_have_left_are_unknown(self):
-        self.hall.enter(choose(3, 1), self.costs)
-        self.hall.leave(1)
-        self.assertEqual(self.assert_refused(UnknownTaker, lambda: self.hall.leave(1)).number, 1)
-        self.assertEqual(self.assert_refused(UnknownTaker, lambda: self.hall.change(1, self.costs)).number, 1)
-        self.hall.change(2, self.costs)
-
-    def test_undone_takers_are_unknown(self):
-        self.hall.undo()
-        self.assertEqual(self.assert_refused(UnknownTaker, lambda: self.hall.leave(1)).number, 1)
+    def test_changing_takers_who_have_left(self):
+        self.enter(choose(3, 1))
+        self.kept.leave(1)
+        self.assertEqual(self.assert_refused(UnknownTaker, lambda: self.kept.change(1, self.costs)).number, 1)
+        self.kept.change(2, self.costs)
 
 
 if __name__ == "__main__":
