@@ -55,8 +55,8 @@ def lessened(game, choice):
         (cost_at(costs, end, counts[end] + 1) - cost_at(costs, start, counts[start]), start, end)
         for start in chains for end in chains[start] if end != start
     ]
-    change, start, end = min(changes, default=(0, 0, 0))
-    return _behind_chain(choice, chains[start], end) if change < 0 else None
+    change, first, last = min(changes, default=(0, 0, 0))
+    return _behind_chain(choice, chains[first], last) if change < 0 else None
 
 
 def _behind_chain(choice, steps, end):
