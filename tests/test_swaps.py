@@ -127,6 +127,10 @@ class Together(unittest.TestCase):
         self.assertEqual(together((0, ((),)), (0, ((),))), (0, ((),)))
         self.assertEqual(spare((0, ((),)), (0, ((),))), 0)
 
+    def test_unions_are_in_ascending_order(self):
+        self.assertEqual(together((9, ((8,),)), (9, ((0, 1),))), (9, ((0, 1, 8),)))
+        self.assertEqual(together((12, ((8, 11),)), (12, ((3,), (9,)))), (12, ((3, 8, 11), (8, 9, 11))))
+
     def test_equal_offers(self):
         self.assertEqual(together(choose(4, 1), choose(4, 1)), choose(4, 2))
         self.assertEqual(spare(choose(4, 1), choose(4, 1)), 0)
